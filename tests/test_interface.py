@@ -1,0 +1,130 @@
+"""Promise [27]: which names there are, in which file, with which arguments; and all errors."""
+
+import ast
+import importlib
+import inspect
+import pathlib
+import unittest
+
+from evenlifts import errors
+
+FOLDER = pathlib.Path(__file__).resolve().parent.parent / "evenlifts"
+
+# The files of the interface that are written, in their order, each name with its parameters.
+FILES = {
+    "signs": "lines_of(text) words_of(line) number_of(word) word_of(number)",
+    "frames": (
+        "is_frame(thing) neighbours(frame,jack) parts(frame) part_of(frame,jack) is_two_coloured(frame) colours(frame) "
+        "is_colours(frame,thing) odd_ring(frame) is_odd_ring(frame,thing) row_frame(n) ring_frame(n) "
+        "floor_frame(rows,columns) renamed(frame,names) put_apart(one,other)"
+    ),
+    "stands": (
+        "is_heights(frame,thing) is_stand(frame,thing) cracks(frame,heights) slack_of(frame,heights) "
+        "lesser(frame,one,other) greater(frame,one,other) distance(frame,one,other) raised(frame,one,other) "
+        "lowered(frame,one,other) is_between(frame,one,other,thing) all_between(frame,one,other) "
+        "level_stand(frame,height) shifted(frame,stand,by) mirrored(frame,stand)"
+    ),
+    "deeds": (
+        "is_deed(frame,thing) can_do(frame,stand,deed) done(frame,stand,deed) room(frame,stand,jack) "
+        "deeds_here(frame,stand) walked(frame,stand,plan) comes_to(frame,stand,plan) first_bad(frame,stand,plan) "
+        "is_plan(frame,one,other,thing) undoing(frame,stand,plan) gone_on(frame,stand,plan,more) "
+        "stops_of(frame,plan,jack) leaped(frame,stand,plan) plan_shifted(plan,by) plan_mirrored(plan)"
+    ),
+    "parted": (
+        "cut_off(frame,one,other,plan) is_cut(frame,one,other,plan) apart(frame,one,other,plan) "
+        "is_apart(frame,one,other,plan) woven(frame,one,other,plan,marks) kept_deeds(frame,one,other,plan) "
+        "never_back(frame,one,other,plan) is_forward(frame,one,other,plan) saved(frame,one,other,plan)"
+    ),
+    "passable": (
+        "levels_between(frame,one,other,jack) passable(frame,one,other) is_passable(frame,one,other,thing) "
+        "are_beside(frame,one,other,near,far) beside(frame,one,other,pair) all_beside(frame,one,other) "
+        "joined_lots(frame,one,other) layers(frame,one,other) sides(frame,one,other) stand_past(frame,one,other,pair)"
+    ),
+    "passings": (
+        "is_passing(frame,one,other,thing) lots_at(frame,one,other,level) barred_by(frame,one,other,passing) "
+        "filled_up(frame,one,other,passing) all_passings(frame,one,other) how_many_passings(frame,one,other) "
+        "most_passed(frame,one,other) greatest_passing(frame,one,other) is_greatest(frame,one,other,thing) "
+        "how_many_greatest(frame,one,other) always_passed(frame,one,other) never_passed(frame,one,other) "
+        "most_with(frame,one,other,pair) most_without(frame,one,other,pair)"
+    ),
+}
+
+# Files of the program's own use, each ahead of all files of the interface that draw on it.
+PRIVATE = ("shapes", "matching", "tiers")
+
+ERRORS = {
+    "NoJack": (LookupError, "jack"), "NoBeam": (LookupError, "beam"), "NoWord": (LookupError, "word"),
+    "NothingDone": (LookupError, None), "Unfit": (ValueError, None), "NoStand": (ValueError, "beam"),
+    "CanNot": (ValueError, None), "TooMany": (ValueError, None), "BadText": (ValueError, "line"),
+}
+
+
+def tree_of(name):
+    return ast.parse((FOLDER / (name + ".py")).read_text())
+
+
+def drawn_on(name):
+    """The files of the package from which a file imports."""
+    found = set()
+    for node in ast.walk(tree_of(name)):
+        if isinstance(node, ast.ImportFrom) and node.module.startswith("evenlifts."):
+            found.add(node.module.split(".")[1])
+    return found
+
+
+class Interface(unittest.TestCase):
+
+    def test_names_are_defined_in_their_files_with_their_parameters(self):
+        for name, told in FILES.items():
+            own = {node.name: node for node in tree_of(name).body if isinstance(node, ast.FunctionDef)}
+            module = importlib.import_module("evenlifts." + name)
+            for entry in told.split():
+                function, parameters = entry.rstrip(")").split("(")
+                self.assertIn(function, own)
+                signature = inspect.signature(getattr(module, function))
+                self.assertEqual(list(signature.parameters), parameters.split(","), function)
+                for parameter in signature.parameters.values():
+                    self.assertIs(parameter.default, inspect.Parameter.empty)
+                    self.assertEqual(parameter.kind, inspect.Parameter.POSITIONAL_OR_KEYWORD)
+
+    def test_errors(self):
+        own = [node.name for node in tree_of("errors").body if isinstance(node, ast.ClassDef)]
+        self.assertEqual(sorted(own), sorted(ERRORS))
+        for name, (base, attribute) in ERRORS.items():
+            error = getattr(errors, name)
+            self.assertEqual(error.__bases__, (base,))
+            if attribute is None:
+                self.assertEqual(vars(error()), {})
+                continue
+            for value in (5, -1, 0, (0, 1), "lift", None):
+                self.assertEqual(vars(error(value)), {attribute: value})
+                self.assertEqual(vars(error(**{attribute: value})), {attribute: value})
+                with self.assertRaises(base) as caught:
+                    raise error(value)
+                self.assertEqual(getattr(caught.exception, attribute), value)
+            self.assertRaises(TypeError, error)
+
+    def test_files_draw_from_those_ahead_alone(self):
+        order = ["errors"] + list(FILES)
+        self.assertEqual(drawn_on("errors"), set())
+        for at, name in enumerate(order):
+            self.assertLessEqual(drawn_on(name) - set(PRIVATE), set(order[:at]), name)
+        for name in PRIVATE:
+            first = min(at for at, file in enumerate(order) if name in self.all_drawn_on(file))
+            self.assertLessEqual(drawn_on(name) - set(PRIVATE), set(order[:first]), name)
+
+    def all_drawn_on(self, name):
+        found, ahead = set(), [name]
+        while ahead:
+            for more in drawn_on(ahead.pop()) - found:
+                found.add(more)
+                ahead.append(more)
+        return found
+
+    def test_no_file_draws_on_itself(self):
+        for path in FOLDER.glob("*.py"):
+            self.assertNotIn(path.stem, self.all_drawn_on(path.stem))
+
+    def test_the_files_are_those_that_are_told(self):
+        names = sorted(path.stem for path in FOLDER.glob("*") if path.name != "__pycache__")
+        self.assertEqual(names, sorted(["__init__", "errors"] + list(FILES) + list(PRIVATE)))
