@@ -132,7 +132,7 @@ def odd_ring(frame):
     low, high = closing[0]
     # Both ways back are equally long: ends of one colour were come to in as many steps.
     near, far = _way_back(came, low), _way_back(came, high)
-    while len(near) > 1 and near[-2] == far[-2]:
+    while near[-2] == far[-2]:
         near.pop()
         far.pop()
     return tuple(near + far[::-1][1:] + [low])

@@ -72,8 +72,8 @@ def always_loose(near, side, across):
     """The list of the members that each greatest set of no two near ones has.
 
     These are the ones that some greatest matching leaves alone: without such a one
-    the matching is as great, so a greatest set is less by one. What is near them is
-    in none, and of all others each is in some set and not in another one.
+    the matching is as great, so a greatest set is less by one. What is near one of
+    them is in no greatest set; each other member is in some, and not in some.
     """
     partner = matched(near, side)
     return list(spared(near, partner, side)) + list(spared(near, partner, across))

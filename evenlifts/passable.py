@@ -104,7 +104,8 @@ def joined_lots(frame, one, other):
             lot = _lot_at(lists, pair)
             told.update(lot)
             lots.append(tuple(sorted(lot)))
-    return sorted(lots)
+    # Each was come to by its least pair, and pairs ascend: so lots do.
+    return lots
 
 
 def layers(frame, one, other):

@@ -118,7 +118,8 @@ def all_passings(frame, one, other):
     lists = beside_lists(held, near, far)
     found = [()]
     for pair in lists:
-        found = found + [own + (pair,) for own in found if not any([far in own for far in lists[pair]])]
+        barred = lists[pair]
+        found = found + [own + (pair,) for own in found if not any([taken in barred for taken in own])]
         if len(found) > _MOST_TOLD:
             raise TooMany()
     return sorted(found)

@@ -51,7 +51,8 @@ def need_jack(frame, jack):
 
 def near_jacks(frame, jack):
     """The list, ascending, of the neighbours of jack."""
-    return sorted([low + high - jack for low, high in frame[1] if jack in (low, high)])
+    # Beams ascend, so the other ends of those that have jack do, too.
+    return [low + high - jack for low, high in frame[1] if jack in (low, high)]
 
 
 def near_lists(frame):
@@ -60,7 +61,7 @@ def near_lists(frame):
     for low, high in frame[1]:
         lists[low].append(high)
         lists[high].append(low)
-    return [sorted(own) for own in lists]
+    return lists
 
 
 def apart_by(one, other):

@@ -18,8 +18,7 @@ def is_stand(frame, thing):
 
 def cracks(frame, heights):
     """The set of the beams that crack."""
-    beams = plain(frame)[1]
-    return tuple([(low, high) for low, high in beams if abs(heights[low] - heights[high]) > 1])
+    return tuple([(low, high) for low, high in frame[1] if abs(heights[low] - heights[high]) > 1])
 
 
 def slack_of(frame, heights):

@@ -19,13 +19,9 @@ def _sizes(near, jacks):
 
 def tiers_of(near, layers):
     """The list of the tiers, levels ascending, of layers: pairs of a level and its jacks."""
-    tiers = []
-    for level, jacks in layers:
-        if tiers and tiers[-1][0] != level - 1:
-            # A level without a jack lies between: what is taken below it bars nothing above.
-            tiers.append((level - 1, {0: 0}))
-        tiers.append((level, _sizes(near, jacks)))
-    return tiers
+    # The levels of a jack follow one another: where a level is left out between two tiers,
+    # they have no jack in common, and what is taken at the one bars nothing at the other.
+    return [(level, _sizes(near, jacks)) for level, jacks in layers]
 
 
 def how_many(tiers):

@@ -103,6 +103,20 @@ def walk(frame, stand, plan):
     return found
 
 
+def pairs_of(one, other):
+    """The list of all passable pairs."""
+    return [
+        (jack, level) for jack in range(len(one))
+        for level in range(min(one[jack], other[jack]) + 1, max(one[jack], other[jack]))
+    ]
+
+
+def are_close(frame, near, far):
+    """Whether two passable pairs are beside one another."""
+    joined = (min(near[0], far[0]), max(near[0], far[0])) in frame[1]
+    return (joined and near[1] == far[1]) or (near[0] == far[0] and abs(near[1] - far[1]) == 1)
+
+
 def row(n):
     return (n, tuple((jack, jack + 1) for jack in range(n - 1)))
 

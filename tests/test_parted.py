@@ -181,6 +181,9 @@ class Parted(Case):
             self.refused(errors.Unfit, function, LINE, FLAT, BENT, ())
             self.refused(errors.Unfit, function, LINE, BENT, FLAT, PLAN)
             self.refused(errors.Unfit, function, LINE, FLAT, (2, 1, 0, 0), PLAN)
+            # No plan leads from or to what is no stand.
+            self.refused(errors.Unfit, function, LINE, (0, 0, 2, 0), BENT, PLAN)
+            self.refused(errors.Unfit, function, LINE, FLAT, (0, 0, 2, 0), PLAN)
 
     def test_plans_of_no_deeds(self):
         for function, wanted in (

@@ -10,7 +10,8 @@ from evenlifts.passable import (
 )
 from evenlifts.stands import is_between
 from making import (
-    APART, Case, FLOOR, HOUSE, KITE, Maker, NO_THINGS, WIDE, WIDE_TWO, lengths, listed, ring, row, some_frames,
+    APART, Case, FLOOR, HOUSE, KITE, Maker, NO_THINGS, WIDE, WIDE_TWO, are_close, lengths, listed, pairs_of, ring, row,
+    some_frames,
 )
 
 EXAMPLES = r'''
@@ -34,19 +35,6 @@ raises NoJack(jack=3)
 '''
 
 LISTING = (passable, all_beside, joined_lots, layers, sides)
-
-
-def pairs_of(one, other):
-    return [
-        (jack, level) for jack in range(len(one))
-        for level in range(min(one[jack], other[jack]), max(one[jack], other[jack]) + 1)
-        if level not in (one[jack], other[jack])
-    ]
-
-
-def are_close(frame, near, far):
-    joined = (min(near[0], far[0]), max(near[0], far[0])) in frame[1]
-    return (joined and near[1] == far[1]) or (near[0] == far[0] and abs(near[1] - far[1]) == 1)
 
 
 def made(seed, many, low=-3, high=4):

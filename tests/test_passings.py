@@ -10,8 +10,8 @@ from evenlifts.passings import (
     is_greatest, is_passing, lots_at, most_passed, most_with, most_without, never_passed,
 )
 from making import (
-    APART, Case, FLOOR, HOUSE, KITE, Maker, NO_THINGS, WIDE, WIDE_TWO, doable, full, listed, put, ring, row,
-    small_frames, some_frames, star,
+    APART, Case, FLOOR, HOUSE, KITE, Maker, NO_THINGS, WIDE, WIDE_TWO, are_close, doable, full, listed, pairs_of, put,
+    ring, row, small_frames, some_frames, star,
 )
 
 EXAMPLES = r'''
@@ -43,18 +43,6 @@ RINGED_8 = (8, tuple(sorted([(0, jack) for jack in range(1, 8)] + [(1, 2)])))
 
 COUNTING = (how_many_passings, how_many_greatest, all_passings)
 TELLING = (most_passed, greatest_passing, always_passed, never_passed)
-
-
-def are_close(frame, near, far):
-    joined = (min(near[0], far[0]), max(near[0], far[0])) in frame[1]
-    return (joined and near[1] == far[1]) or (near[0] == far[0] and abs(near[1] - far[1]) == 1)
-
-
-def pairs_of(one, other):
-    return [
-        (jack, level) for jack in range(len(one))
-        for level in range(min(one[jack], other[jack]) + 1, max(one[jack], other[jack]))
-    ]
 
 
 def slow_passings(frame, one, other):

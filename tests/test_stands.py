@@ -172,6 +172,12 @@ class Stands(Case):
         self.assertEqual(len(all_between(star(12), (0,) * 12, (0,) + (1,) * 10 + (0,))), 1024)
         self.refused(errors.TooMany, all_between, star(12), (0,) * 12, (0,) + (1,) * 11)
         self.refused(errors.TooMany, all_between, ROW, (0,) * 4, (10 ** 6,) * 4)
+        for by in (-10 ** 6, -22, 10 ** 6):
+            near, far = shifted(pair, (0, 0), by), shifted(pair, (43, 44), by)
+            told = all_between(pair, near, far)
+            self.assertEqual(told, [shifted(pair, own, by) for own in all_between(pair, (0, 0), (43, 44))])
+            self.assertEqual(all_between(pair, far, near), told)
+            self.refused(errors.TooMany, all_between, pair, near, shifted(pair, (44, 44), by))
 
     def test_level_shifted_mirrored(self):
         for frame in some_frames():
