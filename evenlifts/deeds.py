@@ -22,7 +22,7 @@ def _fits(frame, stand, deed):
     return stand[deed[0]] != deed[1] and not _torn_by(frame, stand, deed)
 
 
-def _moved(stand, deed):
+def moved_by(stand, deed):
     """The heights of stand with that of deed in its place."""
     jack, height = deed
     return stand[:jack] + (height,) + stand[jack + 1:]
@@ -35,7 +35,7 @@ def _behind(frame, stand, deed):
     torn = _torn_by(frame, stand, deed)
     if torn:
         raise NoStand(torn[0])
-    return _moved(stand, deed)
+    return moved_by(stand, deed)
 
 
 def can_do(frame, stand, deed):
@@ -92,7 +92,7 @@ def _stopped_at(frame, stand, plan):
     for number, deed in enumerate(plan):
         if not _fits(frame, here, deed):
             return (number, here)
-        here = _moved(here, deed)
+        here = moved_by(here, deed)
     return (None, here)
 
 

@@ -1,6 +1,7 @@
 """Frames: jacks and the beams that join them."""
 
 from evenlifts.errors import CanNot, Unfit
+from evenlifts.rings import is_odd_way, odd_way, turns_of
 from evenlifts.shapes import is_number, is_numbers, is_pair_set, near_jacks, near_lists, need_jack, plain
 
 
@@ -61,92 +62,46 @@ def part_of(frame, jack):
     return _part_at(near_lists(_framed_with(frame, jack)), jack)
 
 
-def _grown(near, start, colour, came):
-    """Colour the part of start in turns; came tells from which jack each was come to."""
-    colour[start] = 0
-    queue = [start]
-    at = 0
-    while at < len(queue):
-        jack = queue[at]
-        for far in near[jack]:
-            if colour[far] is None:
-                colour[far] = 1 - colour[jack]
-                came[far] = jack
-                queue.append(far)
-        at += 1
-
-
-def _painted(frame):
-    """The pair of the lists of colours in turns from the least jack of each part, and of came."""
-    near = near_lists(frame)
-    colour = [None for _ in near]
-    came = [None for _ in near]
-    for jack in range(len(near)):
-        if colour[jack] is None:
-            _grown(near, jack, colour, came)
-    return (colour, came)
-
-
-def _plain_beams(frame, colour):
-    """The list of the beams with one colour at both ends."""
-    return [(low, high) for low, high in frame[1] if colour[low] == colour[high]]
+def _near_by(held):
+    """A dict with, for each jack, the list of its neighbours."""
+    return dict(enumerate(near_lists(held)))
 
 
 def is_two_coloured(frame):
     """Whether frame has COLOURS."""
-    held = _framed(frame)
-    return not _plain_beams(held, _painted(held)[0])
+    return turns_of(_near_by(_framed(frame))) is not None
 
 
 def colours(frame):
     """The COLOURS of frame."""
     held = _framed(frame)
-    colour = _painted(held)[0]
-    if _plain_beams(held, colour):
+    colour = turns_of(_near_by(held))
+    if colour is None:
         raise CanNot()
-    return tuple(colour)
+    return tuple([colour[jack] for jack in range(held[0])])
 
 
 def is_colours(frame, thing):
     """Whether thing is the COLOURS of frame."""
     held = _framed(frame)
-    colour = _painted(held)[0]
-    return is_numbers(thing) and thing == tuple(colour) and not _plain_beams(held, colour)
-
-
-def _way_back(came, jack):
-    """The list of the jacks from jack to the one from which its part was coloured."""
-    way = [jack]
-    while came[way[-1]] is not None:
-        way.append(came[way[-1]])
-    return way
+    colour = turns_of(_near_by(held))
+    if colour is None or not is_numbers(thing):
+        return False
+    return thing == tuple([colour[jack] for jack in range(held[0])])
 
 
 def odd_ring(frame):
     """An ODD RING of frame."""
-    held = _framed(frame)
-    colour, came = _painted(held)
-    closing = _plain_beams(held, colour)
-    if not closing:
+    found = odd_way(_near_by(_framed(frame)))
+    if found is None:
         raise CanNot()
-    low, high = closing[0]
-    # Both ways back are equally long: ends of one colour were come to in as many steps.
-    near, far = _way_back(came, low), _way_back(came, high)
-    while near[-2] == far[-2]:
-        near.pop()
-        far.pop()
-    return tuple(near + far[::-1][1:] + [low])
+    return found
 
 
 def is_odd_ring(frame, thing):
     """Whether thing is an ODD RING of frame."""
-    beams = _framed(frame)[1]
-    if not is_numbers(thing) or len(thing) < 2 or thing[0] != thing[-1]:
-        return False
-    steps = [(min(here, behind), max(here, behind)) for here, behind in zip(thing, thing[1:])]
-    if len(steps) % 2 == 0 or not all([step in beams for step in steps]):
-        return False
-    return len(set(thing[1:])) == len(steps)
+    near = _near_by(_framed(frame))
+    return is_numbers(thing) and all([jack in near for jack in thing]) and is_odd_way(near, thing)
 
 
 def _need_from(number, least):

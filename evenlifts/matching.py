@@ -4,22 +4,16 @@ A file of the program's own use, not of the interface. near is a dict with, for 
 member of both sides, the list of the members of the other side that are near it.
 """
 
-
-def _flip(partner, came, last):
-    """Give last, and all along the way by which it was come to, new partners."""
-    far = last
-    while far is not None:
-        here = came[far]
-        freed = partner.get(here)
-        partner[here] = far
-        partner[far] = here
-        far = freed
+from evenlifts.rings import way_back
 
 
-def _match(near, partner, start):
-    """Give start a partner, if that can be done without taking others' away for good."""
-    came = {}
-    queue = [start]
+def way_on(near, partner, starts):
+    """A tuple of members, the first one of starts, the last one without a partner, in turns near ones and partners.
+
+    () if there is none; no member of starts has a partner.
+    """
+    came = {start: None for start in starts}
+    queue = list(starts)
     at = 0
     while at < len(queue):
         here = queue[at]
@@ -29,16 +23,24 @@ def _match(near, partner, start):
                 continue
             came[far] = here
             if far not in partner:
-                _flip(partner, came, far)
-                return
+                return tuple(way_back(came, far)[::-1])
+            came[partner[far]] = far
             queue.append(partner[far])
+    return ()
+
+
+def put_by(partner, way):
+    """Give the members of way new partners: the first one the second one, and so on."""
+    for here, far in zip(way[::2], way[1::2]):
+        partner[here] = far
+        partner[far] = here
 
 
 def matched(near, side):
     """A dict of partners, both ways: as many couples of near ones as can be."""
     partner = {}
     for start in side:
-        _match(near, partner, start)
+        put_by(partner, way_on(near, partner, [start]))
     return partner
 
 

@@ -2,61 +2,31 @@
 
 from evenlifts.errors import Unfit
 from evenlifts.frames import colours
-from evenlifts.shapes import is_number_pair, near_jacks, near_lists, need_few, need_jack, plain
-
-
-def _levels(one, other, jack):
-    """The list, ascending, of the levels strictly between both heights of jack."""
-    return list(range(min(one[jack], other[jack]) + 1, max(one[jack], other[jack])))
-
-
-def _lies_between(one, other, pair):
-    """Whether a pair of numbers is PASSABLE."""
-    jack, level = pair
-    if not 0 <= jack < len(one):
-        return False
-    return min(one[jack], other[jack]) < level < max(one[jack], other[jack])
+from evenlifts.pairs import all_pairs, beside_lists, couples_of, levels_of, lies_between, pairs_beside
+from evenlifts.shapes import is_number_pair, near_lists, need_few, need_jack, plain
 
 
 def levels_between(frame, one, other, jack):
     """The set of the levels of jack's PASSABLE pairs."""
     need_jack(frame, jack)
     need_few(one, other)
-    return tuple(_levels(one, other, jack))
+    return tuple(levels_of(one, other, jack))
 
 
 def passable(frame, one, other):
     """The set of all PASSABLE pairs."""
     need_few(one, other)
-    return tuple([(jack, level) for jack in range(frame[0]) for level in _levels(one, other, jack)])
+    return tuple(all_pairs(one, other))
 
 
 def is_passable(frame, one, other, thing):
     """Whether thing is a PASSABLE pair."""
-    return is_number_pair(thing) and _lies_between(one, other, thing)
-
-
-def _pairs_round(near, one, other, pair):
-    """The list, ascending, of the PASSABLE pairs beside pair, near the neighbours of its jack."""
-    jack, level = pair
-    found = [(far, level) for far in near] + [(jack, level - 1), (jack, level + 1)]
-    return [own for own in sorted(found) if _lies_between(one, other, own)]
-
-
-def pairs_beside(frame, one, other, pair):
-    """The list, ascending, of the PASSABLE pairs beside pair, whether that is one or not."""
-    return _pairs_round(near_jacks(frame, pair[0]), one, other, pair)
-
-
-def beside_lists(frame, one, other):
-    """A dict with, for each PASSABLE pair, the list, ascending, of those beside it."""
-    near = near_lists(frame)
-    return {pair: _pairs_round(near[pair[0]], one, other, pair) for pair in passable(frame, one, other)}
+    return is_number_pair(thing) and lies_between(one, other, thing)
 
 
 def _need_passable(one, other, pair):
     """Raise Unfit if pair is not PASSABLE."""
-    if not is_number_pair(pair) or not _lies_between(one, other, pair):
+    if not is_number_pair(pair) or not lies_between(one, other, pair):
         raise Unfit()
 
 
@@ -77,8 +47,8 @@ def beside(frame, one, other, pair):
 
 def all_beside(frame, one, other):
     """The set of all COUPLES that there are."""
-    lists = beside_lists(frame, one, other)
-    return tuple([(near, far) for near in lists for far in lists[near] if near < far])
+    need_few(one, other)
+    return tuple(couples_of(beside_lists(frame, one, other)))
 
 
 def _lot_at(lists, pair):
@@ -96,6 +66,7 @@ def _lot_at(lists, pair):
 
 def joined_lots(frame, one, other):
     """The list, ascending, of the sets of PASSABLE pairs that are held together."""
+    need_few(one, other)
     lists = beside_lists(frame, one, other)
     told = {}
     lots = []

@@ -2,26 +2,33 @@
 
 A file of the program's own use, not of the interface. A lot of jacks is told as a
 number with the bit of each of them. A tier is a pair (level, sizes): sizes a dict with,
-for each lot of jacks that can be passed at the level, how many they are.
+for each lot of jacks that can be passed at the level, what they weigh together.
 """
 
 
-def _sizes(near, jacks):
-    """A dict with, for each lot of jacks of which no two are neighbours, how many they are."""
+def _sizes(near, row, weights):
+    """A dict with, for each lot of the jacks of row, pairs of one level, no two near, what they weigh."""
     sizes = {0: 0}
-    for jack in jacks:
-        barred = sum([1 << far for far in near[jack]])
+    for jack, level in row:
+        barred = sum([1 << far for far, height in near[(jack, level)] if height == level])
         for lot in list(sizes):
             if lot & barred == 0:
-                sizes[lot | (1 << jack)] = sizes[lot] + 1
+                sizes[lot | (1 << jack)] = sizes[lot] + weights[(jack, level)]
     return sizes
 
 
-def tiers_of(near, layers):
-    """The list of the tiers, levels ascending, of layers: pairs of a level and its jacks."""
-    # The levels of a jack follow one another: where a level is left out between two tiers,
-    # they have no jack in common, and what is taken at the one bars nothing at the other.
-    return [(level, _sizes(near, jacks)) for level, jacks in layers]
+def tiers_of(near, weights):
+    """The list of the tiers, levels ascending, of the pairs of near, each with its weight."""
+    rows = {}
+    for jack, level in near:
+        rows.setdefault(level, []).append((jack, level))
+    tiers = []
+    for level in sorted(rows):
+        # What is taken below a gap bars nothing above it: so an empty tier stands for it.
+        if tiers and tiers[-1][0] < level - 1:
+            tiers.append((level - 1, {0: 0}))
+        tiers.append((level, _sizes(near, rows[level], weights)))
+    return tiers
 
 
 def how_many(tiers):
@@ -42,7 +49,7 @@ def _joined(table, lot, size):
 def _tables(tiers):
     """For each tier a dict with, for each lot, the best PASSINGS of the tiers up to it that end with that lot.
 
-    They are told as a pair: how many pairs they have, and how many such PASSINGS there are.
+    They are told as a pair: what they weigh, and how many such PASSINGS there are.
     """
     tables = []
     table = {0: (0, 1)}
@@ -52,16 +59,16 @@ def _tables(tiers):
     return tables
 
 
-def greatest_told(tiers):
-    """The pair of how many pairs a greatest PASSING has, and how many greatest there are."""
+def heaviest_told(tiers):
+    """The pair of what a heaviest PASSING weighs, and of how many heaviest there are."""
     tables = [{0: (0, 1)}] + _tables(tiers)
     return _joined(tables[-1], 0, 0)
 
 
-def greatest_taken(tiers):
-    """The list of the pairs of a greatest PASSING."""
+def heaviest_taken(tiers):
+    """The list of the pairs of a heaviest PASSING."""
     tables = _tables(tiers)
-    wanted = greatest_told(tiers)[0]
+    wanted = heaviest_told(tiers)[0]
     above = 0
     taken = []
     for (level, sizes), table in list(zip(tiers, tables))[::-1]:
@@ -73,7 +80,7 @@ def greatest_taken(tiers):
 
 
 def totals(tiers):
-    """A dict with, for each level, a dict with, for each lot, the most pairs of a PASSING that takes just it there."""
+    """A dict with, for each level, a dict with, for each lot, the most weight of a PASSING that takes just it there."""
     upward = _tables(tiers)
     downward = _tables(tiers[::-1])[::-1]
     found = {}
@@ -83,7 +90,7 @@ def totals(tiers):
 
 
 def most_at(found, pair, taken):
-    """The most pairs, by totals, of a PASSING that has pair (taken 1) or has not (taken 0)."""
+    """The most weight, by totals, of a PASSING that has pair (taken 1) or has not (taken 0)."""
     jack, level = pair
     own = found[level]
     return max([own[lot] for lot in own if (lot >> jack) & 1 == taken])

@@ -5,6 +5,8 @@ import inspect
 import itertools
 import unittest
 
+from evenlifts.errors import TooMany, Unfit
+
 
 class Maker:
     """Numbers that look as if drawn, the same ones at each run."""
@@ -201,8 +203,17 @@ def is_made_of_tuples(value):
     return value is None or isinstance(value, (int, str))
 
 
+# What is no frame, and what is no stand of a row of three.
+NO_FRAMES = (None, 3, (), (3, ()), (3, ((0, 1),)), (3, ((0, 1), (0, 2), (1, 3))), (True, ((0, 1),)), "a")
+NO_STANDS = (
+    None, 0, (), (0, 0), (0, 0, 0, 0), (0, 0, 2), (0, 0, True), (0, 0, "0"), "000", (0, 0, None), ((0, 0, 0),),
+)
+
+
 class Case(unittest.TestCase):
     """A test that calls functions in all ways in which they may be called."""
+
+    Unfit, TooMany = Unfit, TooMany
 
     def tell(self, function, *values):
         """What function tells; by position, by names and with lists for tuples it has to be the same."""
@@ -276,3 +287,29 @@ class Case(unittest.TestCase):
                 self.assertEqual((told, type(told)), (wanted, type(wanted)), line)
             tried += 1
         self.assertGreater(tried, 0)
+
+    def unfit_stands(self, function, *more):
+        """function raises Unfit for what is no frame, or no stand of it; ahead of TooMany."""
+        path, low, high, far = row(3), (0, 0, 0), (3, 3, 3), (1000, 1000, 1000)
+        for frame in NO_FRAMES:
+            self.refused(self.Unfit, function, frame, low, high, *more)
+            self.refused(self.Unfit, function, frame, low, far, *more)
+        for heights in NO_STANDS:
+            self.refused(self.Unfit, function, path, heights, high, *more)
+            self.refused(self.Unfit, function, path, heights, far, *more)
+            self.refused(self.Unfit, function, path, low, heights, *more)
+
+    def too_many_levels(self, function, more, answers=True):
+        """function raises TooMany for more than 480 levels, added up; not for 480 if answers.
+
+        more(frame, one, other) tells the arguments that stand behind other.
+        """
+        pair, three = row(2), ring(3)
+        for frame, other in ((pair, (240, 241)), (three, (161, 160, 160)), (pair, (10 ** 6, 10 ** 6))):
+            low = (0,) * frame[0]
+            self.refused(self.TooMany, function, frame, low, other, *more(frame, low, other))
+            self.refused(self.TooMany, function, frame, other, low, *more(frame, other, low))
+        for frame, other in ((pair, (240, 240)), (three, (160, 160, 160)), (row(4), (120,) * 4)):
+            low = (0,) * frame[0]
+            if answers:
+                function(frame, low, other, *more(frame, low, other))

@@ -47,10 +47,37 @@ FILES = {
         "how_many_greatest(frame,one,other) always_passed(frame,one,other) never_passed(frame,one,other) "
         "most_with(frame,one,other,pair) most_without(frame,one,other,pair)"
     ),
+    "plans": (
+        "plan_of(frame,one,other,passing) is_plan_of(frame,one,other,passing,thing) "
+        "deeds_with(frame,one,other,passing) is_straight(frame,one,other,thing) passed_by(frame,one,other,plan) "
+        "pass_moment(frame,one,other,plan,pair) stand_at_pass(frame,one,other,plan,pair) "
+        "plan_with(frame,one,other,plan,pair) plan_without(frame,one,other,plan,pair) "
+        "wasted_stops(frame,one,plan) shortened(frame,one,plan)"
+    ),
+    "fewest": (
+        "fewest(frame,one,other) fewest_up(frame,one,other) fewest_down(frame,one,other) "
+        "shortest_plan(frame,one,other) is_shortest(frame,one,other,thing) spare_deeds(frame,one,plan) "
+        "can_begin(frame,one,other) can_end(frame,one,other) within(frame,one,many) nearest_of(frame,one,goals) "
+        "raised_more(frame,one,other,jack)"
+    ),
+    "couples": (
+        "all_couples(frame,one,other) is_couples(frame,one,other,thing) free_pairs(frame,one,other,couples) "
+        "led_on(frame,one,other,couples) is_led_on(frame,one,other,couples,thing) "
+        "couples_by(frame,one,other,couples,way) greatest_couples(frame,one,other) cover(frame,one,other) "
+        "is_cover(frame,one,other,thing) short_by(frame,one,other,couples) "
+        "papers_agree(frame,one,other,couples,passing) odd_round(frame,one,other) is_odd_round(frame,one,other,thing)"
+    ),
+    "prices": (
+        "is_prices(frame,thing) price_at(prices,jack,level) with_price(prices,jack,level,price) "
+        "plan_price(frame,prices,one,plan) can_come(frame,prices,one,other) bar(frame,prices,one,other) "
+        "is_bar(frame,prices,one,other,thing) cheapest(frame,prices,one,other) cheap_plan(frame,prices,one,other) "
+        "heaviest_passing(frame,prices,one,other) is_cheap_plan(frame,prices,one,other,thing) "
+        "is_heaviest(frame,prices,one,other,thing) kept_to(frame,prices,one,other,jack,level)"
+    ),
 }
 
 # Files of the program's own use, each ahead of all files of the interface that draw on it.
-PRIVATE = ("shapes", "matching", "tiers")
+PRIVATE = ("shapes", "rings", "pairs", "matching", "flows", "tiers", "heaviest", "asked")
 
 ERRORS = {
     "NoJack": (LookupError, "jack"), "NoBeam": (LookupError, "beam"), "NoWord": (LookupError, "word"),

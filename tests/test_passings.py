@@ -10,9 +10,10 @@ from evenlifts.passings import (
     is_greatest, is_passing, lots_at, most_passed, most_with, most_without, never_passed,
 )
 from making import (
-    APART, Case, FLOOR, HOUSE, KITE, Maker, NO_THINGS, WIDE, WIDE_TWO, are_close, doable, full, listed, pairs_of, put,
-    ring, row, small_frames, some_frames, star,
+    APART, Case, FLOOR, HOUSE, KITE, Maker, NO_THINGS, WIDE, WIDE_TWO, are_close, full, listed, pairs_of, ring, row,
+    small_frames, some_frames, star,
 )
+from slowly import fewest_deeds, made, slow_passings
 
 EXAMPLES = r'''
 >>> path, tri, low, two, high = (3, ((0, 1), (1, 2))), (3, ((0, 1), (0, 2), (1, 2))), (0, 0, 0), (2, 2, 2), (3, 3, 3)
@@ -43,44 +44,6 @@ RINGED_8 = (8, tuple(sorted([(0, jack) for jack in range(1, 8)] + [(1, 2)])))
 
 COUNTING = (how_many_passings, how_many_greatest, all_passings)
 TELLING = (most_passed, greatest_passing, always_passed, never_passed)
-
-
-def slow_passings(frame, one, other):
-    """All passings, from all sets of passable pairs: no two of a set close."""
-    found = [()]
-    for pair in pairs_of(one, other):
-        found += [own + (pair,) for own in found if not any(are_close(frame, pair, far) for far in own)]
-    return sorted(found)
-
-
-def fewest_deeds(frame, one, other):
-    """How many deeds it takes, by going through stands, one deed after the other."""
-    found, ahead, many = {one}, [one], 0
-    low, high = min(one + other) - 1, max(one + other) + 1
-    while other not in found:
-        behind = []
-        for stand in ahead:
-            for deed in doable(frame, stand):
-                moved = put(stand, deed)
-                if low <= deed[1] <= high and moved not in found:
-                    found.add(moved)
-                    behind.append(moved)
-        ahead, many = behind, many + 1
-    return many
-
-
-def made(seed, many, least=0, most=15, low=-2, high=4):
-    """Frames and stands with few enough passable pairs to go through all their sets."""
-    maker = Maker(seed)
-    for frame in some_frames():
-        here = 0
-        for _ in range(200):
-            one, other = maker.stand(frame, low, high), maker.stand(frame, low, high)
-            if least <= len(pairs_of(one, other)) <= most:
-                yield frame, one, other
-                here += 1
-                if here == many:
-                    break
 
 
 class Passings(Case):
@@ -283,20 +246,11 @@ class Passings(Case):
         self.assertEqual(never_passed(PATH, LOW, HIGH), ())
 
     def test_unfit_ahead_of_all(self):
-        good, far = ((0, 1),), (1000, 1000, 1000)
-        frames = (None, 3, (), (3, ()), (3, ((0, 1),)), (3, ((0, 1), (0, 2), (1, 3))), (True, ((0, 1),)), "a")
-        heights = (None, 0, (), (0, 0), (0, 0, 0, 0), (0, 0, 2), (0, 0, True), (0, 0, "0"), "000", (0, 0, None), (LOW,))
+        good = ((0, 1),)
         extra = {is_passing: None, is_greatest: None, lots_at: 1, barred_by: good, filled_up: good,
                  most_with: (0, 1), most_without: (0, 1)}
         for function in COUNTING + TELLING + tuple(extra):
-            more = (extra[function],) if function in extra else ()
-            for frame in frames:
-                self.refused(errors.Unfit, function, frame, LOW, HIGH, *more)
-                self.refused(errors.Unfit, function, frame, LOW, far, *more)
-            for own in heights:
-                self.refused(errors.Unfit, function, PATH, own, HIGH, *more)
-                self.refused(errors.Unfit, function, PATH, own, far, *more)
-                self.refused(errors.Unfit, function, PATH, LOW, own, *more)
+            self.unfit_stands(function, *((extra[function],) if function in extra else ()))
 
     def test_unfit_passings_pairs_and_levels(self):
         far = (1000, 1000, 1000)
