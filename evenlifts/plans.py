@@ -9,7 +9,7 @@ from evenlifts.passings import passing_of
 from evenlifts.shapes import apart_by, is_number_pair, near_lists, need_few, plain
 
 
-def _next_stop(jack, height, goal, gone):
+def next_stop(jack, height, goal, gone):
     """The height of jack's next stop on its way from height to goal; gone are the pairs that are passed."""
     step = 1 if height < goal else -1
     if (jack, height + step) in gone:
@@ -27,7 +27,7 @@ def straight_plan(frame, one, other, passing):
     # Some jack can always go on: no deed has to wait for another one round in a ring.
     while waiting:
         for jack in waiting:
-            height = _next_stop(jack, here[jack], other[jack], gone)
+            height = next_stop(jack, here[jack], other[jack], gone)
             if all([abs(here[far] - height) <= 1 for far in near[jack]]):
                 here[jack] = height
                 deeds.append((jack, height))

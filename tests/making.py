@@ -119,6 +119,23 @@ def are_close(frame, near, far):
     return (joined and near[1] == far[1]) or (near[0] == far[0] and abs(near[1] - far[1]) == 1)
 
 
+def some_prices(maker, n, low, high, barred, most=6):
+    """Prices with stops told from low to high, barred of ten of them forbidden."""
+    found = []
+    for _ in range(n):
+        levels = [level for level in range(low, high + 1) if maker.below(2)]
+        found.append((maker.among(1, most), tuple(
+            (level, None if maker.below(10) < barred else maker.below(most + 1)) for level in levels
+        )))
+    return tuple(found)
+
+
+def cost_of(prices, stop):
+    """What a stop costs, None if it is forbidden."""
+    even, told = prices[stop[0]]
+    return dict(told).get(stop[1], even)
+
+
 def row(n):
     return (n, tuple((jack, jack + 1) for jack in range(n - 1)))
 

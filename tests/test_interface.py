@@ -74,6 +74,34 @@ FILES = {
         "heaviest_passing(frame,prices,one,other) is_cheap_plan(frame,prices,one,other,thing) "
         "is_heaviest(frame,prices,one,other,thing) kept_to(frame,prices,one,other,jack,level)"
     ),
+    "loads": (
+        "open_pairs(frame,one,other,prices) weight_of(frame,one,other,prices,passing) "
+        "heaviest_open(frame,one,other,prices) is_heaviest_open(frame,one,other,prices,thing) "
+        "is_loads(frame,one,other,prices,thing) loads_sum(frame,one,other,prices,loads) "
+        "least_loads(frame,one,other,prices) loads_agree(frame,one,other,prices,loads,passing) "
+        "more_by(frame,one,other,prices,pair) less_by(frame,one,other,prices,pair)"
+    ),
+    "owndeeds": (
+        "own_fewest(frame,one,other,jack) least_for_each(frame,one,other) lot_fewest(frame,one,other,lot) "
+        "lot_plan(frame,one,other,lot) is_lot_plan(frame,one,other,lot,thing) can_all(frame,one,other,lot) "
+        "own_paper(frame,one,other,lot) is_own_paper(frame,one,other,lot,thing) ranked(frame,one,other,lots) "
+        "ranked_plan(frame,one,other,lots)"
+    ),
+    "arrows": (
+        "moves(frame,one,other,passing) arrows(frame,one,other,passing) "
+        "must_come_ahead(frame,one,other,passing,move) can_come_first(frame,one,other,passing) "
+        "is_order(frame,one,other,passing,thing) plan_of_order(frame,one,other,passing,order) "
+        "order_of_plan(frame,one,other,plan) how_many_orders(frame,one,other,passing) "
+        "order_at(frame,one,other,passing,number) order_number(frame,one,other,passing,order) "
+        "led_to(frame,one,other,passing,order,goal) is_led_to(frame,one,other,passing,order,goal,thing)"
+    ),
+    "stops": (
+        "cut_pairs(frame,one,other,middle) fewest_by(frame,one,other,middles) stop_cost(frame,one,other,middles) "
+        "visit_plan(frame,one,other,middles) is_visit_plan(frame,one,other,middles,thing) free_stops(frame,one,other) "
+        "jack_stop(frame,one,other,jack,height) stand_to_stop(frame,one,other,jack,height) "
+        "is_stand_to_stop(frame,one,other,jack,height,thing) stop_paper(frame,one,other,middle) "
+        "is_stop_paper(frame,one,other,middle,thing)"
+    ),
 }
 
 # Files of the program's own use, each ahead of all files of the interface that draw on it.

@@ -9,8 +9,8 @@ from evenlifts.prices import (
     plan_price, price_at, with_price,
 )
 from making import (
-    Case, FLOOR, HOUSE, KITE, Maker, NO_THINGS, WIDE, WIDE_TWO, are_close, full, listed, pairs_of, ring, row,
-    some_frames, walk,
+    Case, FLOOR, HOUSE, KITE, Maker, NO_THINGS, WIDE, WIDE_TWO, are_close, cost_of, full, listed, pairs_of, ring, row,
+    some_frames, some_prices, walk,
 )
 from slowly import cheapest_ways, made, slow_passings
 
@@ -46,22 +46,6 @@ SHUT = ((1, ()), (1, ((1, None),)), (1, ((1, None),)), (3, ()))
 ENDED = ((1, ((2, None),)), (1, ((1, None),)), (1, ()), (3, ()))
 PLAN = ((0, 1), (2, 1), (1, 2), (3, 2), (0, 2), (2, 2))
 SMALL = [frame for frame in some_frames() if frame[0] <= 5]
-
-
-def some_prices(maker, n, low, high, barred, most=6):
-    """Prices with stops told from low to high, barred of ten of them forbidden."""
-    found = []
-    for _ in range(n):
-        levels = [level for level in range(low, high + 1) if maker.below(2)]
-        found.append((maker.among(1, most), tuple(
-            (level, None if maker.below(10) < barred else maker.below(most + 1)) for level in levels
-        )))
-    return tuple(found)
-
-
-def cost_of(prices, stop):
-    even, told = prices[stop[0]]
-    return dict(told).get(stop[1], even)
 
 
 def cost_of_all(prices, plan):
