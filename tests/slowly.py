@@ -3,6 +3,7 @@
 import heapq
 import itertools
 
+from evenlifts.frames import is_two_coloured
 from making import Maker, are_close, doable, pairs_of, put, some_frames
 
 
@@ -18,6 +19,17 @@ def made(seed, many, least=0, most=15, low=-2, high=4, frames=None):
                 here += 1
                 if here == many:
                     break
+
+
+def lifted(seed):
+    """Frames that are not two-coloured, each jack two or three levels higher in other."""
+    maker = Maker(seed)
+    for frame in some_frames():
+        if not is_two_coloured(frame):
+            for _ in range(3):
+                one, other = maker.stand(frame, 0, 1), maker.stand(frame, 2, 3)
+                if len(pairs_of(one, other)) <= 10:
+                    yield frame, one, other
 
 
 def slow_passings(frame, one, other):

@@ -5,12 +5,11 @@ from evenlifts.couples import (
     all_couples, couples_by, cover, free_pairs, greatest_couples, is_couples, is_cover, is_led_on, is_odd_round, led_on,
     odd_round, papers_agree, short_by,
 )
-from evenlifts.frames import is_two_coloured
 from evenlifts.passings import greatest_passing
 from making import (
     Case, FLOOR, Maker, NO_THINGS, WIDE, WIDE_TWO, are_close, full, listed, pairs_of, ring, row, some_frames, stands,
 )
-from slowly import all_sets, made, odd_rounds, slow_passings
+from slowly import all_sets, lifted, made, odd_rounds, slow_passings
 
 EXAMPLES = r'''
 >>> row, low, high = (4, ((0, 1), (1, 2), (2, 3))), (0, 0, 0, 0), (2, 2, 2, 2)
@@ -90,17 +89,6 @@ def slow_ways_on(frame, one, other, told):
             elif partner[far] not in way:
                 ways.append(way + (far, partner[far]))
     return found
-
-
-def lifted(seed):
-    """Frames that are not two-coloured, each jack two or three levels higher in other."""
-    maker = Maker(seed)
-    for frame in some_frames():
-        if not is_two_coloured(frame):
-            for _ in range(3):
-                one, other = maker.stand(frame, 0, 1), maker.stand(frame, 2, 3)
-                if len(pairs_of(one, other)) <= 10:
-                    yield frame, one, other
 
 
 class Couples(Case):
