@@ -1,7 +1,7 @@
 """Which deed comes ahead of which: the moves of a passing, their arrows, and all their orders."""
 
 from evenlifts.asked import framed
-from evenlifts.deeds import is_deed, is_plan
+from evenlifts.deeds import is_deed
 from evenlifts.errors import CanNot, TooMany, Unfit
 from evenlifts.pairs import lies_between
 from evenlifts.passings import passing_of
@@ -124,10 +124,10 @@ def _is_order_of(frame, one, other, passing, thing):
         return False
     if not all([is_numbers(move) and len(move) == 3 for move in thing]):
         return False
-    # As many MOVES of passing, none twice: so all of them. They can be walked exactly if no ARROW leads back.
     if sorted(thing) != sorted(_moves(one, other, passing)):
         return False
-    return is_plan(frame, one, other, _deeds_of(thing))
+    # Those of each jack in turn, and each can be done at what the ones ahead leave: exactly if no ARROW leads back.
+    return leads_straight(frame, one, other, _deeds_of(thing))
 
 
 def _order_of(frame, one, other, passing, order):
