@@ -190,7 +190,8 @@ def _walks(frame, one, other, passing):
         behind = {}
         for stand in rows[-1]:
             steps[stand] = _next_ones(lists, other, gone, stand)
-            behind.update({moved: True for _, moved in steps[stand]})
+            for _, moved in steps[stand]:
+                behind[moved] = True
         rows.append(list(behind))
     ways = {other: 1}
     for row in rows[:-1][::-1]:

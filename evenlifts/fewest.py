@@ -96,8 +96,8 @@ def can_end(frame, one, other):
     """The list, ascending, of the DEEDS that are the last of some shortest PLAN."""
     held, near, far = _answered(frame, one, other)
     # Undone, a shortest PLAN is one back: its first DEED moves the jack that ended.
-    movers = set([jack for jack, height in _first_deeds(held, far, near)])
-    return [(jack, far[jack]) for jack in sorted(movers)]
+    movers = sorted(set([jack for jack, _ in _first_deeds(held, far, near)]))
+    return [(jack, far[jack]) for jack in movers]
 
 
 def within(frame, one, many):
@@ -111,7 +111,8 @@ def within(frame, one, many):
             for deed in deeds_here(held, stand):
                 behind[moved_by(stand, deed)] = True
         edge = [stand for stand in behind if stand not in found]
-        found.update(behind)
+        for stand in edge:
+            found[stand] = True
         if len(found) > _MOST_STANDS:
             raise TooMany()
     return sorted(found)

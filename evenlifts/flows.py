@@ -28,7 +28,8 @@ def _way_to_room(near, room, loads, start, dead):
                     came[own] = far
                     queue.append(own)
     # From all that was come to no way will ever lead to room: so none needs to try there again.
-    dead.update(came)
+    for member in came:
+        dead[member] = True
     return ()
 
 

@@ -132,7 +132,8 @@ def _ranks(lists, lots):
     weights = {}
     worth = 1
     for lot in lots[::-1]:
-        weights.update({pair: worth for pair in lists if pair[0] in lot})
+        for pair in [own for own in lists if own[0] in lot]:
+            weights[pair] = worth
         worth = worth * (len(lists) + 1)
     return weights
 

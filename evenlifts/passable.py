@@ -73,7 +73,8 @@ def joined_lots(frame, one, other):
     for pair in lists:
         if pair not in told:
             lot = _lot_at(lists, pair)
-            told.update(lot)
+            for own in lot:
+                told[own] = True
             lots.append(tuple(sorted(lot)))
     # Each was come to by its least pair, and pairs ascend: so lots do.
     return lots

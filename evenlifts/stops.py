@@ -113,7 +113,8 @@ def _ways_on(frame, one, other):
     while edge:
         behind = {moved: True for stand in edge for moved in _closer_ones(frame, stand, other) if moved not in found}
         many = found[edge[0]] + 1
-        found.update({moved: many for moved in behind})
+        for moved in behind:
+            found[moved] = many
         if len(found) > _MOST_STANDS:
             raise TooMany()
         edge = list(behind)

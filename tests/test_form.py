@@ -22,6 +22,8 @@ BARRED_WORDS = {
     "mro", "elements", "open", "input", "law", "compile", "dir", "eval", "exec", "exit", "globals", "help", "id", "locals",
     "os", "quit", "super", "vars", "sys", "copyright", "credits", "license",
 }
+# Whoever shows values one by one, as doctest does, leaves a "_" there.
+BUILTINS = set(dir(builtins)) - {"_"}
 NODES_BARRED = (ast.Global, ast.AsyncFunctionDef, ast.Await, ast.Import, ast.Div, ast.MatMult)
 
 
@@ -105,10 +107,10 @@ class Form(unittest.TestCase):
             bound += [own.arg for node in functions(tree) for own in node.args.args]
             for own in bound:
                 self.assertNotIn(own, top, name)
-                self.assertNotIn(own, dir(builtins), name)
+                self.assertNotIn(own, BUILTINS, name)
                 self.assertFalse(own.startswith("__"), name)
             for node in functions(tree):
-                self.assertFalse(node.name != "__init__" and node.name in dir(builtins), node.name)
+                self.assertFalse(node.name != "__init__" and node.name in BUILTINS, node.name)
             for node in ast.walk(tree):
                 if isinstance(node, ast.Name):
                     self.assertFalse(node.id == "_" and isinstance(node.ctx, ast.Load), name)

@@ -368,33 +368,27 @@ class Stops(Case):
             self.assertIn(jack_stop(frame, low, high, 3, 2), (0, 1))
 
     def test_free_stops_just_enough(self):
-        # Without beams between parts the stands between are a product.
-        three_parts = (6, ((0, 1), (2, 3), (4, 5)))
-        five, low = (6, ((0, 1), (2, 3), (4, 5))), (0,) * 6
-        self.assertEqual(five, three_parts)
-        for other, many in (((1, 1, 4, 3, 2, 3), None), ((3, 3, 3, 3, 1, 1), None), ((2, 3, 3, 3, 2, 1), None)):
-            count = len(slow_between(three_parts, low, other))
-            if count > 500:
-                self.refused(errors.TooMany, free_stops, three_parts, low, other)
-            else:
-                self.assertTrue(set(free_stops(three_parts, low, other)) <= set(slow_between(three_parts, low, other)))
-        # 4 * 125: each jack of a pair by 41 and a half or so; one more jack's height more is too many.
-        self.check_count((2, ((0, 1),)), (0, 0), (166, 167), 500)
-        self.check_count((2, ((0, 1),)), (0, 0), (167, 167), None)
-        self.check_count((4, ((0, 1), (2, 3))), (0, 0, 0, 1), (1, 1, 41, 41), None)
+        apart = (4, ((0, 1), (2, 3)))
+        for frame, one, other, many in (
+            (row(2), (0, 0), (166, 167), 500), (row(2), (0, 0), (167, 167), 502), (row(4), (0,) * 4, (19,) * 4, 500),
+            (apart, (0, 1, 0, 0), (2, 1, 55, 56), 501), (apart, (0, 1, 0, 0), (2, 1, -55, -55), 498),
+            (ring(3), (0, 0, 0), (71, 71, 72), 499), (ring(3), (0, 0, 0), (71, 72, 72), 501),
+            (KITE, (0,) * 4, (24, 24, 25, 24), 500), (KITE, (0,) * 4, (24, 25, 24, 24), 501),
+        ):
+            self.assertEqual(len(slow_between(frame, one, other)), many)
+            for near, far in ((one, other), (other, one)):
+                if many > 500:
+                    self.refused(errors.TooMany, free_stops, frame, near, far)
+                else:
+                    self.check_free(frame, near, far)
 
-    def check_count(self, frame, one, other, wanted):
-        count = len(slow_between(frame, one, other))
-        if wanted is not None:
-            self.assertEqual(count, wanted)
-        if count > 500:
-            self.refused(errors.TooMany, free_stops, frame, one, other)
-            self.refused(errors.TooMany, free_stops, frame, other, one)
-        else:
-            told = free_stops(frame, one, other)
-            self.assertEqual(told, free_stops(frame, other, one))
-            self.assertIn(one, told)
-            self.assertIn(other, told)
+    def check_free(self, frame, one, other):
+        """What is told costs nothing, as stop_cost has it of each; what is not costs something."""
+        told = free_stops(frame, one, other)
+        known = slow_between(frame, one, other)
+        self.assertTrue(set(told) <= set(known))
+        for own in known[::25] + [one, other]:
+            self.assertIs(own in told, stop_cost(frame, one, other, (own,)) == 0)
 
     def test_bounds(self):
         maker = Maker(190)
