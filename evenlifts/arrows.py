@@ -303,4 +303,8 @@ def is_led_to(frame, one, other, passing, order, goal, thing):
     if thing[0] != row or thing[-1] != last or _has_truths(thing[0]):
         return False
     # In so few exchanges each one turns a pair round that goal has the other way: so an ORDER stands behind each.
-    return all([_are_exchanged(here, behind) for here, behind in zip(thing, thing[1:])])
+    for here, behind in zip(thing, thing[1:]):
+        # Each is looked at only behind one that is an ORDER.
+        if not _are_exchanged(here, behind):
+            return False
+    return True

@@ -287,6 +287,21 @@ class Arrows(Case):
         for at in range(1, 6):
             truths = way[:at] + (tuple((jack, False, True) for jack, _, _ in way[at]),) + way[at + 1:]
             self.assertIs(is_led_to(line, (0, 0, 0, 0), high, (), order, goal, truths), False)
+            here = way[at]
+            for wrong in (None, 5, "abcd", (), list(here), here[:-1], here + here[-1:], here[:1] * 4, way[0], way[-1],
+                          here[:3] + (None,), here[:3] + ((3, 0),), here[1:] + here[:1], way[at - 1], way[at + 1]):
+                thing = way[:at] + (wrong,) + way[at + 1:]
+                self.assertIs(is_led_to(line, (0, 0, 0, 0), high, (), order, goal, thing), False)
+            # Two neighbours that are not exchanged, but each put in the place of another one.
+            for spot in range(3):
+                for two in itertools.product(order, repeat=2):
+                    row_told = way[at - 1][:spot] + two + way[at - 1][spot + 2:]
+                    thing = way[:at] + (row_told,) + way[at + 1:]
+                    fits = row_told == way[at] or all(
+                        sorted(own) == sorted(order) and len([k for k in range(4) if own[k] != far[k]]) == 2
+                        and any(own[k:k + 2] == far[k:k + 2][::-1] != far[k:k + 2] for k in range(3))
+                        for own, far in ((row_told, way[at - 1]), (row_told, way[at + 1])))
+                    self.assertIs(is_led_to(line, (0, 0, 0, 0), high, (), order, goal, thing), fits)
 
     def test_unfit_stands(self):
         for function in (moves, arrows, can_come_first, how_many_orders):
