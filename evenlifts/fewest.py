@@ -3,7 +3,7 @@
 from evenlifts.asked import need_answer
 from evenlifts.deeds import comes_to, deeds_here, is_plan, moved_by
 from evenlifts.errors import CanNot, TooMany, Unfit
-from evenlifts.heaviest import always_of, greatest_of, most_of, never_of
+from evenlifts.heaviest import always_of, greatest_of, most_of
 from evenlifts.pairs import beside_lists
 from evenlifts.plans import can_walk, straight_plan
 from evenlifts.shapes import apart_by, need_jack, plain
@@ -71,19 +71,14 @@ def spare_deeds(frame, one, plan):
 
 def _first_deeds(frame, one, other):
     """The list, ascending, of the first DEEDS of shortest PLANS from one to other."""
-    lists = beside_lists(frame, one, other)
-    always, never = always_of(lists), never_of(lists)
-    found = []
-    # Shortest PLANS are straight. One that begins with a DEED passes what is left between
-    # behind it, and the level that it leaps: so whether some greatest PASSING stops where
-    # it stops, or passes what it leaps, decides.
-    for jack, height in deeds_here(frame, one):
-        if one[jack] < height <= other[jack] or one[jack] > height >= other[jack]:
-            leaped = (jack, (one[jack] + height) // 2)
-            leaps = abs(one[jack] - height) == 2
-            if (leaps and leaped not in never) or (not leaps and (jack, height) not in always):
-                found.append((jack, height))
-    return found
+    always = always_of(beside_lists(frame, one, other))
+    # Shortest PLANS are straight, and what is left between behind a DEED is all but where it
+    # stops and what it leaps. A level that can be leaped at once has none beside it but the
+    # stop: so some greatest PASSING has it, and that one stops there.
+    return [
+        (jack, height) for jack, height in deeds_here(frame, one)
+        if (one[jack] < height <= other[jack] or one[jack] > height >= other[jack]) and (jack, height) not in always
+    ]
 
 
 def can_begin(frame, one, other):

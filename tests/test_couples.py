@@ -147,8 +147,16 @@ class Couples(Case):
             self.check_no_ways(frame, one, other, told, ways)
 
     def check_no_ways(self, frame, one, other, told, ways):
-        """Of all short tuples of pairs just those are ways on that are."""
+        """Of all rows of pairs, each beside the next one, and of all short tuples just those are ways on that are."""
         pairs = pairs_of(one, other)
+        if len(pairs) > 8:
+            return
+        rows = [(pair,) for pair in pairs]
+        for row_told in rows:
+            if len(row_told) < 6:
+                rows += [row_told + (far,) for far in pairs if far not in row_told and are_close(frame, row_told[-1], far)]
+        for row_told in rows[:: len(rows) // 400 + 1]:
+            self.assertIs(is_led_on(frame, one, other, told, row_told), row_told in ways, row_told)
         if len(pairs) > 5:
             return
         for rows in all_sets(pairs, 4):
@@ -255,6 +263,13 @@ class Couples(Case):
         self.none_of(lambda thing: is_led_on(ROW, LOW, HIGH, MIDDLE, thing), wrong)
         self.none_of(lambda thing: is_led_on(ROW, LOW, HIGH, FULL, thing), wrong + (WAY, WAY[:2]))
         self.assertIs(is_led_on(ROW, LOW, HIGH, MIDDLE, WAY), True)
+        # All free: no two in the middle are one of couples.
+        self.assertIs(is_led_on(ROW, LOW, HIGH, (), WAY), False)
+        long, high = tuple((jack, 1) for jack in range(8)), (2,) * 8
+        told = tuple(zip(long[1:7:2], long[2:7:2]))
+        self.assertIs(is_led_on(row(8), (0,) * 8, high, told, long), True)
+        for at in range(3):
+            self.assertIs(is_led_on(row(8), (0,) * 8, high, told[:at] + told[at + 1:], long), False)
 
     def test_things_that_are_no_covers(self):
         wrong = [thing for thing in NO_THINGS if thing != ()] + [
