@@ -102,10 +102,32 @@ FILES = {
         "is_stand_to_stop(frame,one,other,jack,height,thing) stop_paper(frame,one,other,middle) "
         "is_stop_paper(frame,one,other,middle,thing)"
     ),
+    "goals": (
+        "is_goal(frame,thing) can_fit(frame,goal) goal_bar(frame,goal) is_goal_bar(frame,goal,thing) "
+        "nearest_stand(frame,one,goal) must_move(frame,one,goal) why_moved(frame,one,goal,jack) "
+        "is_why_moved(frame,one,goal,jack,thing) fewest_to(frame,one,goal) plan_to_goal(frame,one,goal) "
+        "is_plan_to_goal(frame,one,goal,thing)"
+    ),
+    "levels": (
+        "level_fewest(frame,high) one_more(frame,high) how_high(frame,many) two_more(frame) settled_at(frame) "
+        "colour_plan(frame,high) scaled(heights,slack) stretched(plan,high,slack) slack_fewest(frame,high,slack) "
+        "slack_plan(frame,high,slack) is_slack_plan(frame,high,slack,thing)"
+    ),
+    "high": (
+        "loose_lots(frame,lot) fold(frame,lot) table_of(frame,lot) added(table,more) powered(table,number) "
+        "passing_at(frame,lot,number) settled(frame,lot) stretches(frame,one,other) high_passing(frame,one,other) "
+        "high_fewest(frame,one,other)"
+    ),
+    "changed": (
+        "beam_more(frame,beam) beam_less(frame,beam) loose_beams(frame) jack_more(frame,lot) jack_less(frame,jack) "
+        "bears(frame,stand,beam) heights_let(frame,stand,lot) saving(frame,one,other,beam) "
+        "greatest_saving(frame,one,other) saving_paper(frame,one,other,beam) "
+        "is_saving_paper(frame,one,other,beam,thing)"
+    ),
 }
 
 # Files of the program's own use, each ahead of all files of the interface that draw on it.
-PRIVATE = ("shapes", "rings", "pairs", "matching", "flows", "tiers", "heaviest", "asked")
+PRIVATE = ("shapes", "rings", "pairs", "matching", "flows", "tiers", "heaviest", "asked", "piles")
 
 ERRORS = {
     "NoJack": (LookupError, "jack"), "NoBeam": (LookupError, "beam"), "NoWord": (LookupError, "word"),
