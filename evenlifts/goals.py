@@ -48,6 +48,11 @@ def _goal_bars(frame, goal):
     return found
 
 
+def fits(stand, goal):
+    """Whether stand has all heights of goal."""
+    return all([stand[jack] == height for jack, height in goal])
+
+
 def can_fit(frame, goal):
     """Whether some STAND fits goal."""
     held, told = plain((frame, goal))
@@ -156,5 +161,4 @@ def is_plan_to_goal(frame, one, goal, thing):
     many = fewest(held, near, _nearest(held, near, told))
     if not can_walk(held, near, thing) or len(thing) != many:
         return False
-    last = comes_to(held, near, thing)
-    return all([last[jack] == height for jack, height in told])
+    return fits(comes_to(held, near, thing), told)

@@ -131,13 +131,9 @@ def _above(most, lots, by, many):
 def _passed(frame, one, other):
     """How many pairs a greatest PASSING has."""
     most = {(): 0}
-    top = None
+    # Levels at which none has a PASSABLE pair need no step: no jack has such pairs below and above them.
     for first, behind, jacks in _all_stretches(one, other):
-        if first != top:
-            # What passes below a gap bars nothing above it.
-            most = {(): max(most.values())}
         most = _above(most, _loose(frame, jacks), pile_of(frame, jacks)[0], behind - first)
-        top = behind
     return max(most.values())
 
 

@@ -12,7 +12,7 @@ from evenlifts.shapes import is_jack, need_few, need_jack, plain
 _MOST_LOTS = 4
 
 
-def _is_lot(frame, thing):
+def is_lot(frame, thing):
     """Whether thing is a set of jacks."""
     if not isinstance(thing, tuple) or not all([is_jack(frame, jack) for jack in thing]):
         return False
@@ -21,7 +21,7 @@ def _is_lot(frame, thing):
 
 def _are_lots(frame, thing):
     """Whether thing is a tuple of a few sets of jacks, no jack in two of them."""
-    if not isinstance(thing, tuple) or len(thing) > _MOST_LOTS or not all([_is_lot(frame, lot) for lot in thing]):
+    if not isinstance(thing, tuple) or len(thing) > _MOST_LOTS or not all([is_lot(frame, lot) for lot in thing]):
         return False
     jacks = [jack for lot in thing for jack in lot]
     return len(set(jacks)) == len(jacks)
@@ -62,7 +62,7 @@ def _lotted(frame, one, other, lot):
     """All four as tuples; Unfit if they are not what they ought to be."""
     held, near, far = framed(frame, one, other)
     jacks = plain(lot)
-    if not _is_lot(held, jacks):
+    if not is_lot(held, jacks):
         raise Unfit()
     return (held, near, far, jacks)
 

@@ -49,6 +49,17 @@ def functions(tree):
     return [node for node in ast.walk(tree) if isinstance(node, ast.FunctionDef)]
 
 
+def called_from_tables(tree):
+    """The local names to which a function from a table of its file is given."""
+    tables = {own.id for node in tree.body if isinstance(node, ast.Assign) and isinstance(node.value, ast.Dict)
+              for own in node.targets}
+    return {
+        node.targets[0].id for node in ast.walk(tree)
+        if isinstance(node, ast.Assign) and isinstance(node.targets[0], ast.Name) and isinstance(node.value, ast.Subscript)
+        and isinstance(node.value.value, ast.Name) and node.value.value.id in tables
+    }
+
+
 class Form(unittest.TestCase):
 
     def test_sizes(self):
@@ -92,6 +103,7 @@ class Form(unittest.TestCase):
         for name, text, tree in files():
             known = {own.name for node in tree.body if isinstance(node, ast.ImportFrom) for own in node.names}
             known |= {node.name for node in tree.body if isinstance(node, (ast.FunctionDef, ast.ClassDef))}
+            known |= called_from_tables(tree)
             for node in ast.walk(tree):
                 if isinstance(node, ast.Call):
                     if isinstance(node.func, ast.Name):

@@ -1,6 +1,7 @@
 """Promise [27]: which names there are, in which file, with which arguments; and all errors."""
 
 import ast
+import functools
 import importlib
 import inspect
 import pathlib
@@ -124,10 +125,32 @@ FILES = {
         "greatest_saving(frame,one,other) saving_paper(frame,one,other,beam) "
         "is_saving_paper(frame,one,other,beam,thing)"
     ),
+    "rounds": (
+        "is_round(frame,stand,thing) is_rounds(frame,one,other,thing) behind_rounds(frame,stand,rounds) "
+        "plan_of_rounds(frame,stand,rounds) rounds_of(frame,stand,plan) many_level_rounds(frame,height) "
+        "level_rounds(frame,height) rounds_bound(frame,one,other) crew(rounds)"
+    ),
+    "judge": (
+        "is_claim(thing) is_so(claim) paper(claim) is_paper(claim,thing) shows(claim,thing) not_so(claims) "
+        "words_so(claims)"
+    ),
+    "texts": (
+        "frame_text(frame) heights_text(heights) plan_text(plan) prices_text(prices) picture(width,heights) "
+        "beams_picture(width,heights) read_frame(text) read_heights(text) read_plan(text) read_prices(text) "
+        "read_picture(text)"
+    ),
+    "yard": "",
+    "desk": "is_request(line) replies(frame,text) last_yard(frame,text)",
 }
 
+# The one class but the errors: its parameters, and its methods with theirs.
+YARD = (
+    "self,frame", "do(self,edit) undo(self) redo(self) twin(self) edits(self) frame(self) stand(self) prices(self) "
+    "goal(self) aim(self) fewest(self) cost(self)"
+)
+
 # Files of the program's own use, each ahead of all files of the interface that draw on it.
-PRIVATE = ("shapes", "rings", "pairs", "matching", "flows", "tiers", "heaviest", "asked", "piles")
+PRIVATE = ("shapes", "rings", "pairs", "matching", "flows", "tiers", "heaviest", "asked", "piles", "wordings", "held")
 
 ERRORS = {
     "NoJack": (LookupError, "jack"), "NoBeam": (LookupError, "beam"), "NoWord": (LookupError, "word"),
@@ -136,17 +159,17 @@ ERRORS = {
 }
 
 
+@functools.lru_cache(maxsize=None)
 def tree_of(name):
     return ast.parse((FOLDER / (name + ".py")).read_text())
 
 
+@functools.lru_cache(maxsize=None)
 def drawn_on(name):
     """The files of the package from which a file imports."""
-    found = set()
-    for node in ast.walk(tree_of(name)):
-        if isinstance(node, ast.ImportFrom) and node.module.startswith("evenlifts."):
-            found.add(node.module.split(".")[1])
-    return found
+    return frozenset(
+        node.module.split(".")[1] for node in ast.walk(tree_of(name))
+        if isinstance(node, ast.ImportFrom) and node.module.startswith("evenlifts."))
 
 
 class Interface(unittest.TestCase):
@@ -163,6 +186,17 @@ class Interface(unittest.TestCase):
                 for parameter in signature.parameters.values():
                     self.assertIs(parameter.default, inspect.Parameter.empty)
                     self.assertEqual(parameter.kind, inspect.Parameter.POSITIONAL_OR_KEYWORD)
+
+    def test_the_class_defines_its_methods_itself(self):
+        told = [node for node in tree_of("yard").body if isinstance(node, ast.ClassDef)]
+        self.assertEqual([(node.name, node.bases) for node in told], [("Yard", [])])
+        own = {node.name: node for node in told[0].body if isinstance(node, ast.FunctionDef)}
+        wanted = dict(entry.rstrip(")").split("(") for entry in YARD[1].split())
+        wanted.update({"__init__": YARD[0], "__eq__": "self,other", "__len__": "self"})
+        self.assertEqual(set(own), set(wanted))
+        for method, parameters in wanted.items():
+            self.assertEqual([arg.arg for arg in own[method].args.args], parameters.split(","), method)
+            self.assertEqual(own[method].args.defaults, [])
 
     def test_errors(self):
         own = [node.name for node in tree_of("errors").body if isinstance(node, ast.ClassDef)]

@@ -4,6 +4,7 @@ import importlib
 import inspect
 import unittest
 
+from evenlifts.judge import is_paper, is_so, shows
 from making import listed
 from test_interface import FILES
 
@@ -11,6 +12,7 @@ PAIR, PATH, ROW, HOOP = (2, ((0, 1),)), (3, ((0, 1), (1, 2))), (4, ((0, 1), (1, 
 TWO, THREE, FOUR, UP = (0, 0), (0, 0, 0), (0, 0, 0, 0), (2, 2, 2, 2)
 PRICES = ((1, ((-1, 2), (3, None))), (1, ((1, None),)), (1, ()), (3, ()))
 SHUT = ((1, ()), (1, ((1, None),)), (1, ((1, None),)), (3, ((2, None),)))
+EVEN = ((1, ()), (2, ()), (1, ()), (3, ()))
 PLAN = ((0, 1), (2, 1), (1, 2), (3, 2), (0, 2), (2, 2))
 ORDERS = (
     ((0, 0, 1), (1, 0, 1), (2, 0, 1)), ((0, 0, 1), (2, 0, 1), (1, 0, 1)), ((2, 0, 1), (0, 0, 1), (1, 0, 1)),
@@ -61,6 +63,25 @@ KNOWN = {
     "is_plan_to_goal": ((PATH, THREE, ((2, 3),)), [((2, 1), (0, 1), (1, 2), (2, 3))]),
     "is_slack_plan": ((ROW, 7, 3), [((0, 3), (2, 3), (1, 6), (3, 6), (0, 7), (2, 7), (1, 7), (3, 7))]),
     "is_saving_paper": ((HOOP, THREE, UP[1:], (0, 2)), [(((0, 1),), ((0, 1), (2, 1))), (((1, 1),), ((0, 1), (2, 1)))]),
+    "is_round": ((PATH, THREE), [((0, 1), (2, 1)), ((1, -1),)]),
+    "is_rounds": ((PATH, THREE, (2, 2, 2)), [(((0, 1), (2, 1)), ((1, 2),), ((0, 2), (2, 2)))]),
+    "is_claim": ((), [
+        ("two", HOOP), ("come", ROW, EVEN, FOUR, UP), ("fewest", ROW, FOUR, UP, 5), ("cheap", ROW, EVEN, FOUR, UP, 0),
+        ("lot", ROW, FOUR, UP, (0, 2), 7), ("fits", ROW, ((0, 1), (3, -3))), ("move", ROW, FOUR, ((2, 3),), 1),
+    ]),
+    "is_paper": ((("fewest", ROW, FOUR, UP, 5),), [(((0, 1), (1, 1)), ((2, 1), (3, 1))), PLAN]),
+    "shows": ((("cheap", ROW, PRICES, FOUR, UP, 8),), [PLAN]),
+}
+# Papers of one claim of each word and kind: spoiled, they show nothing.
+PAPERS = {
+    ("two", ROW): (0, 1, 0, 1), ("two", HOOP): (0, 1, 2, 0), ("come", ROW, PRICES, FOUR, UP): PLAN,
+    ("come", ROW, SHUT, FOUR, UP): ("beside", (1, 1), (2, 1)), ("fewest", ROW, FOUR, UP, 6): PLAN,
+    ("fewest", ROW, FOUR, UP, 5): (((0, 1), (1, 1)), ((2, 1), (3, 1))), ("cheap", ROW, PRICES, FOUR, UP, 8): PLAN,
+    ("cheap", ROW, ((3, ()), (5, ()), (4, ()), (3, ())), FOUR, UP, 21): LOADS[:3],
+    ("cheap", ROW, SHUT, FOUR, UP, 99): ("goal", (3, 2)), ("lot", ROW, FOUR, UP, (0, 1), 3): PLAN,
+    ("lot", ROW, FOUR, UP, (0, 1), 2): (((0, 1), (1, 1)),), ("fits", PATH, ((2, 3),)): (1, 2, 3),
+    ("fits", PATH, ((0, 0), (2, 9))): (0, 1, 2), ("move", PATH, THREE, ((2, 3),), 0): (2, 1, 0),
+    ("move", PATH, THREE, ((2, 1),), 0): ((2, 1),),
 }
 
 
@@ -111,7 +132,15 @@ class Things(unittest.TestCase):
             for thing in things:
                 for wrong in spoiled(thing):
                     if name != "is_prices" or not prices_yet(wrong):
-                        self.assertIs(functions[name](*ahead, wrong), False, (name, wrong))
+                        self.assertIs(functions[name](*ahead, wrong), None if name == "shows" else False, (name, wrong))
+
+    def test_spoiled_papers(self):
+        for claim, thing in PAPERS.items():
+            self.assertIs(shows(claim, thing), is_so(claim), claim)
+            for wrong in spoiled(thing):
+                self.assertIs(shows(claim, wrong), None, (claim, wrong))
+                self.assertIs(is_paper(claim, wrong), False)
+        self.assertEqual(len({(claim[0], is_so(claim)) for claim in PAPERS}), 14)
 
     def test_spoiled_parts_side_by_side(self):
         """Two parts of one tuple spoiled at once: neither is looked at as if it were sound."""
@@ -123,8 +152,7 @@ class Things(unittest.TestCase):
                     for wrong in junk:
                         for other in junk:
                             told = functions[name](*ahead, thing[:at] + (wrong, other) + thing[at + 2:])
-                            self.assertIn(told, (True, False))
-                            self.assertIsInstance(told, bool)
+                            self.assertIsInstance(told, (bool, type(None)) if name == "shows" else bool)
 
 
 def prices_yet(thing):
