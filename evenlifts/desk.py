@@ -2,7 +2,7 @@
 
 from evenlifts.errors import BadText, CanNot, NoBeam, NoJack, NoStand, NothingDone, TooMany, Unfit
 from evenlifts.signs import lines_of, number_of, word_of
-from evenlifts.wordings import halves_of, parted
+from evenlifts.wordings import parted
 from evenlifts.yard import Yard
 
 _MOST_FIGURES = 13
@@ -34,7 +34,7 @@ def _number_told(word, kind):
 
 def _deed_told(word):
     """The list of the one DEED that word tells; [] if it tells none."""
-    ahead, behind = halves_of(word)
+    ahead, _, behind = word.partition(":")
     found = _number_told(ahead, "jack") + _number_told(behind, "height")
     return [tuple(found)] if len(found) == 2 else []
 

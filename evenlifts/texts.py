@@ -3,7 +3,7 @@
 from evenlifts.errors import BadText
 from evenlifts.frames import is_frame
 from evenlifts.signs import lines_of, number_of, word_of
-from evenlifts.wordings import halves_of, numbers_behind, parted
+from evenlifts.wordings import numbers_behind, parted
 
 _FORBIDDEN = "-"
 
@@ -127,7 +127,7 @@ def read_plan(text):
 
 def _told_stop(word):
     """The pair of a told level and its price that word tells, None if it tells none."""
-    ahead, behind = halves_of(word)
+    ahead, _, behind = word.partition(":")
     level, price = number_of(ahead), number_of(behind)
     if level is None or (behind != _FORBIDDEN and (price is None or price < 0)):
         return None

@@ -22,9 +22,3 @@ def numbers_behind(line, word):
     if words[:1] != [word] or None in numbers:
         return None
     return numbers
-
-
-def halves_of(word):
-    """The pair of what stands ahead of the one ":" of word and behind it, of two empty strings if there is not one."""
-    ahead, _, behind = word.partition(":")
-    return ("", "") if ":" in behind else (ahead, behind)

@@ -100,6 +100,7 @@ class Form(unittest.TestCase):
                 self.assertGreater(text.count(own), 1, (name, own))
 
     def test_calls(self):
+        methods = METHODS | own_attributes()
         for name, text, tree in files():
             known = {own.name for node in tree.body if isinstance(node, ast.ImportFrom) for own in node.names}
             known |= {node.name for node in tree.body if isinstance(node, (ast.FunctionDef, ast.ClassDef))}
@@ -109,7 +110,7 @@ class Form(unittest.TestCase):
                     if isinstance(node.func, ast.Name):
                         self.assertIn(node.func.id, known | CALLED, (name, node.lineno))
                 elif isinstance(node, ast.Attribute):
-                    self.assertIn(node.attr, METHODS | own_attributes(), (name, node.lineno))
+                    self.assertIn(node.attr, methods, (name, node.lineno))
 
     def test_names(self):
         for name, text, tree in files():

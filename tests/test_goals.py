@@ -224,13 +224,12 @@ class Goals(Case):
             if many > 2:
                 continue
             deeds = [(jack, height) for jack in range(frame[0]) for height in range(-1, 4)]
-            for length in range(4):
+            for length in range(4 if frame[0] == 2 else many + 1):
                 for plan in itertools.product(deeds, repeat=length):
-                    if length < 3 or plan[0][0] == plan[1][0] or plan[2][1] == 1:
-                        passed = walk(frame, one, plan)
-                        wanted = passed is not None and fits(passed[-1], goal) and length == many
-                        self.assertIs(is_plan_to_goal(frame, one, goal, plan), wanted)
-                        elsewhere += wanted and passed[-1] != nearest_stand(frame, one, goal)
+                    passed = walk(frame, one, plan)
+                    wanted = passed is not None and fits(passed[-1], goal) and length == many
+                    self.assertIs(is_plan_to_goal(frame, one, goal, plan), wanted)
+                    elsewhere += wanted and passed[-1] != nearest_stand(frame, one, goal)
         self.assertGreater(elsewhere, 0)
         self.assertIs(is_plan_to_goal(row(2), (0, 0), ((0, 2),), ((1, 1), (0, 2))), True)
         self.assertIs(is_plan_to_goal(row(2), (0, 0), ((0, 2),), ((0, 1), (1, 1), (0, 2))), False)

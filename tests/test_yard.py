@@ -210,6 +210,8 @@ class Yards(Case):
         near = done_by(row(3), [("beam", 0, 2)])
         self.assertEqual(near.frame(), Yard(ring(3)).frame())
         self.assertFalse(near == Yard(ring(3)) or near == done_by(ring(3), [("out", 0, 2), ("beam", 0, 2)]))
+        self.assertFalse(Yard(row(3)) == Yard(ring(3)))
+        self.assertFalse(done_by(row(3), [("move", 0, 1)]) == done_by(ring(3), [("move", 0, 1)]))
         for thing in (None, 0, (), [], "yard", KITE, near.edits()):
             self.assertFalse(near == thing)
             self.assertTrue(near != thing)
