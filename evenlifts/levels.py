@@ -14,7 +14,7 @@ def _piled(frame):
     """frame as tuples, and its pile; TooMany if no greatest PASSING is told for it."""
     held = plain(frame)
     need_greatest(held)
-    return (held, pile_of(held, range(held[0])))
+    return (held, pile_of(held, list(range(held[0]))))
 
 
 def _many(frame, pile, high):

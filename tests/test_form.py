@@ -24,6 +24,11 @@ BARRED_WORDS = {
 }
 # Whoever shows values one by one, as doctest does, leaves a "_" there.
 BUILTINS = set(dir(builtins)) - {"_"}
+# What is walked on the spot (L23), and the builtins that walk their first argument, or their only one, at once.
+WALKS = {"range", "zip", "enumerate", "reversed"}
+VIEWS = {".items", ".keys", ".values"}
+WALKERS = {"list", "tuple", "dict", "sorted", "sum", "any", "all", "enumerate", "zip"}
+WALKERS_OF_ONE = {"min", "max"}
 NODES_BARRED = (ast.Global, ast.AsyncFunctionDef, ast.Await, ast.Import, ast.Div, ast.MatMult)
 
 
@@ -58,6 +63,56 @@ def called_from_tables(tree):
         if isinstance(node, ast.Assign) and isinstance(node.targets[0], ast.Name) and isinstance(node.value, ast.Subscript)
         and isinstance(node.value.value, ast.Name) and node.value.value.id in tables
     }
+
+
+def called_name(node):
+    """The name of the function that node calls, or of the method, ahead of it a dot; "" if node is no such call."""
+    if not isinstance(node, ast.Call):
+        return ""
+    if isinstance(node.func, ast.Attribute):
+        return "." + node.func.attr
+    return getattr(node.func, "id", "")
+
+
+def is_walk(node):
+    """Whether node is a call that gives a range, a zip, an enumerate, a reversed or a view of a dict."""
+    return called_name(node) in WALKS | VIEWS
+
+
+def walked_by_call(node):
+    """The list of that argument of the call node that it may walk on the spot, if there is one."""
+    name, first = called_name(node), node.args[:1]
+    inner = called_name(first[0]) if first else ""
+    may = (
+        name in WALKERS
+        or name in WALKERS_OF_ONE and len(node.args) == 1
+        or name == "reversed" and inner == "range"
+        or name == "len" and inner in VIEWS | {"range"}
+        or name == ".join" and isinstance(node.func.value, ast.Constant)
+    )
+    return first if may else []
+
+
+def walked_in_test(node):
+    """Those sides of the comparison node that may be asked whether they have something."""
+    asked = [own for sign, own in zip(node.ops, node.comparators) if isinstance(sign, (ast.In, ast.NotIn))]
+    return [own for own in asked if called_name(own) in ("range", ".keys")]
+
+
+def walks_not_on_the_spot(tree):
+    """The rows of the calls of is_walk that are kept, handed on or returned instead of walked.
+
+    L23 lets a plain local variable keep some of them; the package does without.
+    """
+    walked = []
+    for node in ast.walk(tree):
+        if isinstance(node, (ast.For, ast.comprehension)):
+            walked.append(node.iter)
+        elif isinstance(node, ast.Call):
+            walked += walked_by_call(node)
+        elif isinstance(node, ast.Compare):
+            walked += walked_in_test(node)
+    return sorted(node.lineno for node in ast.walk(tree) if is_walk(node) and not any(node is own for own in walked))
 
 
 class Form(unittest.TestCase):
@@ -149,6 +204,36 @@ class Form(unittest.TestCase):
                         if node.func.attr in ("append", "pop", "extend", "update", "setdefault", "clear", "remove"):
                             target = node.func.value
                             self.assertFalse(isinstance(target, ast.Name) and target.id in gone_over, (name, loop.lineno))
+
+    def test_walks_are_on_the_spot(self):
+        for name, text, tree in files():
+            self.assertEqual(walks_not_on_the_spot(tree), [], name)
+
+    def test_walks_that_are_not_on_the_spot_are_seen(self):
+        for row in (
+            "held = pile_of(frame, range(n))", "held = pile_of(frame, lot=range(n))", "held = pile_of(*range(n))",
+            "held = pile_of(frame, zip(one, other))", "held = pile_of(frame, enumerate(one))", "held = own.told(range(n))",
+            "held = pile_of(frame, reversed(one))", "held = pile_of(frame, table.items())", "held = (n, range(n))",
+            "held = range(n)", "held, far = zip(one, other)", "held = reversed(list(one))", "held.append(range(n))",
+            "held = reversed(zip(one, other))", "held = len(zip(one, other))", "held = one == range(n)", "held = map(one, range(n))",
+            "held = max(range(n), one)", "held = zip(one, range(n))", "held = set(range(n))",
+            "held = one in zip(one, other)", "held = one in table.values()", "held = word.join(table.keys())",
+            "held = [range(n) for n in one]", "held = reversed(range(n)) if n else one",
+        ):
+            self.assertEqual(walks_not_on_the_spot(ast.parse("n = 0\n" + row))[:1], [2], row)
+        told = ast.parse("def told(n):\n    return range(n)")
+        self.assertEqual(walks_not_on_the_spot(told), [2])
+
+    def test_walks_on_the_spot_may_stand(self):
+        for row in (
+            "held = pile_of(frame, list(range(n)))", "held = pile_of(frame, tuple(zip(one, other)))", "held = sum(range(n))",
+            "held = [jack for jack in range(n)]", "held = list(enumerate(zip(one, other)))", "held = max(table.values())",
+            "held = list(reversed(range(n)))", "held = jack in range(n)", "held = jack not in table.keys()",
+            "held = len(range(n)) + len(table.items())", "held = max(range(n), default=0)", "held = ' '.join(table.keys())",
+            "held = dict(zip(one, other))", "held = {jack: 1 for jack, own in table.items()}", "held = list(range(n))[::-1]",
+        ):
+            self.assertEqual(walks_not_on_the_spot(ast.parse(row)), [], row)
+        self.assertEqual(walks_not_on_the_spot(ast.parse("for jack, own in enumerate(one):\n    told(jack)")), [])
 
     def test_each_function_has_a_docstring(self):
         for name, text, tree in files():
